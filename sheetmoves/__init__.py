@@ -1,0 +1,1 @@
+"""Sheetmoves: counters on an endless sheet, and colourings that bar."""

@@ -31,13 +31,18 @@ def is_entries(kinds, thing):
             and in_order(thing))
 
 
+def entries_from(numbers):
+    """The entries of the stand with these numbers, a dict from (x, y, kind)."""
+    return tuple([(x, y, kind, numbers[x, y, kind])
+                  for x, y, kind in sorted(numbers) if numbers[x, y, kind] != 0])
+
+
 def entries_sum(one, other, times):
     """The entries of one stand plus so many times another one, by the entries of both."""
     numbers = {(x, y, kind): number for x, y, kind, number in one}
     for x, y, kind, number in other:
         numbers[x, y, kind] = numbers.get((x, y, kind), 0) + times * number
-    return tuple([(x, y, kind, numbers[x, y, kind])
-                  for x, y, kind in sorted(numbers) if numbers[x, y, kind] != 0])
+    return entries_from(numbers)
 
 
 def entry_lines(entries):

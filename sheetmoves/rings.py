@@ -6,11 +6,40 @@ at y * a + x in the part of its kind.
 
 from math import gcd, lcm
 
+from sheetmoves.stands import known_stand
+
 
 def flat_place(kinds, a, b, cell):
     """Where the number at a cell (x, y, kind) stands in a flat list."""
     x, y, kind = cell
     return (kinds.index(kind) * b + y % b) * a + x % a
+
+
+def flat_numbers(kinds, a, b, entries, deed):
+    """The flat list of these entries, moved by (x, y), so many times: deed is (x, y, times)."""
+    dx, dy, times = deed
+    numbers = [0] * (len(kinds) * a * b)
+    for x, y, kind, number in entries:
+        numbers[flat_place(kinds, a, b, (x + dx, y + dy, kind))] += times * number
+    return numbers
+
+
+def move_rows(book, a, b, places):
+    """The flat list of each of these moves, told by places (name, x, y)."""
+    return [flat_numbers(book.kinds, a, b, book[name].entries, (x, y, 1)) for name, x, y in places]
+
+
+def ring_places(book, a, b):
+    """The places (name, x, y) of all moves of a book on the ring, ascending."""
+    return [(name, x, y) for name in book.names for x in range(a) for y in range(b)]
+
+
+def stand_of_flat(kinds, a, b, numbers):
+    """The folded stand with these numbers, a flat list."""
+    return known_stand(kinds, {
+        (x, y, kind): numbers[flat_place(kinds, a, b, (x, y, kind))]
+        for x in range(a) for y in range(b) for kind in kinds
+    })
 
 
 def rows_of(numbers, a, b):

@@ -20,29 +20,33 @@ def is_entry(kinds, thing):
     return is_int(x) and is_int(y) and is_int(number) and number != 0
 
 
-def in_order(entries):
-    """Whether entries are ascending, no two with the same cell and kind."""
-    return all([one[:3] < other[:3] for one, other in zip(entries, entries[1:])])
+def numbers_of(entries):
+    """The numbers that entries tell, a dict from (x, y, kind)."""
+    return {(x, y, kind): number for x, y, kind, number in entries}
+
+
+def in_order(entries, numbers):
+    """Whether entries, which tell these numbers, are ascending, no two with the same cell and kind."""
+    return len(numbers) == len(entries) and list(entries) == sorted(entries)
 
 
 def is_entries(kinds, thing):
     """Whether any value is the entries of a stand for these kinds."""
     return (isinstance(thing, tuple) and all([is_entry(kinds, entry) for entry in thing])
-            and in_order(thing))
+            and in_order(thing, numbers_of(thing)))
 
 
 def entries_from(numbers):
     """The entries of the stand with these numbers, a dict from (x, y, kind)."""
-    return tuple([(x, y, kind, numbers[x, y, kind])
-                  for x, y, kind in sorted(numbers) if numbers[x, y, kind] != 0])
+    return tuple(sorted([(x, y, kind, number) for (x, y, kind), number in numbers.items() if number != 0]))
 
 
-def entries_sum(one, other, times):
-    """The entries of one stand plus so many times another one, by the entries of both."""
+def numbers_sum(one, other, times):
+    """The numbers of one stand plus so many times another one, by the entries of both."""
     numbers = {(x, y, kind): number for x, y, kind, number in one}
     for x, y, kind, number in other:
         numbers[x, y, kind] = numbers.get((x, y, kind), 0) + times * number
-    return entries_from(numbers)
+    return numbers
 
 
 def entry_lines(entries):
@@ -61,7 +65,7 @@ def entry_of(kinds, line):
 
 def comes_behind(entry, entries):
     """Whether an entry may follow these ones, which are in order."""
-    return len(entries) == 0 or in_order((entries[-1], entry))
+    return len(entries) == 0 or entries[-1][:3] < entry[:3]
 
 
 def lines_of(text):
@@ -90,30 +94,32 @@ class Stand:
         for entry in entries:
             if not is_entry(kinds, entry):
                 raise BadStand(entry)
-        if not in_order(entries):
+        numbers = numbers_of(entries)
+        if not in_order(entries, numbers):
             raise BadStand("order")
         self.kinds = kinds
         self.entries = entries
-        self._numbers = {(x, y, kind): number for x, y, kind, number in entries}
+        self._numbers = numbers
 
     def __add__(self, other):
         if self.kinds != other.kinds:
             raise OtherKinds()
-        return Stand(self.kinds, entries_sum(self.entries, other.entries, 1))
+        return known_stand(self.kinds, numbers_sum(self.entries, other.entries, 1))
 
     def __sub__(self, other):
         if self.kinds != other.kinds:
             raise OtherKinds()
-        return Stand(self.kinds, entries_sum(self.entries, other.entries, -1))
+        return known_stand(self.kinds, numbers_sum(self.entries, other.entries, -1))
 
     def __mul__(self, other):
-        return Stand(self.kinds, entries_sum((), self.entries, other))
+        return known_stand(self.kinds, numbers_sum((), self.entries, other))
 
     def moved(self, by):
         """The stand moved by a pair of integers."""
         dx, dy = by
-        entries = [(x + dx, y + dy, kind, number) for x, y, kind, number in self.entries]
-        return Stand(self.kinds, tuple(entries))
+        return known_stand(self.kinds, {
+            (x + dx, y + dy, kind): number for x, y, kind, number in self.entries
+        })
 
     def __getitem__(self, at):
         return self._numbers.get(at, 0)
@@ -158,3 +164,23 @@ class Stand:
                 raise BadText(at)
             entries.append(entry)
         return cls(kinds, tuple(entries))
+
+
+def known_stand(kinds, numbers):
+    """The stand with these numbers, a dict from (x, y, kind), all of which are known to be right.
+
+    The program makes stands of what it has just worked out: to check each entry once more takes
+    longer than the rest. The dict belongs to the stand from here on.
+    """
+    entries = entries_from(numbers)
+    stand = Stand(kinds)
+    stand.entries = entries
+    # Without what has come to 0, sums of sums do not grow longer and longer.
+    stand._numbers = numbers if len(numbers) == len(entries) else numbers_of(entries)
+    return stand
+
+
+def check_kinds(kinds, stands):
+    """Raises OtherKinds if one of these stands, or books, has other kinds than these."""
+    if not all([stand.kinds == kinds for stand in stands]):
+        raise OtherKinds()

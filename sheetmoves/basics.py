@@ -6,7 +6,7 @@ MOST_DIGITS = 60
 
 def is_int(thing):
     """Whether any value is an integer; True and False are none."""
-    return isinstance(thing, int) and not isinstance(thing, bool)
+    return isinstance(thing, int) and thing is not True and thing is not False
 
 
 def is_letters(thing, most):

@@ -3,7 +3,7 @@
 from sheetmoves.basics import is_letters, word_behind
 from sheetmoves.errors import BadBook, BadText, Clash, OtherKinds, UnknownName
 from sheetmoves.stands import (
-    Stand, comes_behind, entry_lines, entry_of, is_entries, is_kinds, kinds_of, lines_of,
+    comes_behind, entry_lines, entry_of, is_entries, is_kinds, kinds_of, known_stand, lines_of, numbers_of,
 )
 
 NO_NAMES = ("kinds", "move", "self")
@@ -69,17 +69,19 @@ class Book:
             raise BadBook("order")
         self.kinds = kinds
         self.moves = moves
+        # Neither names nor moves ever change, and walks ask for them deed by deed.
+        self._names = tuple([name for name, _ in moves])
+        self._stands = {name: known_stand(kinds, numbers_of(entries)) for name, entries in moves}
 
     @property
     def names(self):
         """The names of the moves, ascending."""
-        return tuple([name for name, _ in self.moves])
+        return self._names
 
     def __getitem__(self, at):
-        for name, entries in self.moves:
-            if name == at:
-                return Stand(self.kinds, entries)
-        raise UnknownName(at)
+        if not isinstance(at, str) or at not in self._stands:
+            raise UnknownName(at)
+        return self._stands[at]
 
     def __iter__(self):
         raise TypeError("a book is not iterated over")

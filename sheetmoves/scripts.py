@@ -2,7 +2,7 @@
 
 from sheetmoves.basics import is_int
 from sheetmoves.errors import BadScript
-from sheetmoves.stands import Stand, entries_from
+from sheetmoves.stands import known_stand
 
 
 def is_deed(book, thing):
@@ -59,14 +59,18 @@ def deeds_of(item):
             for k in range(many) for name, x, y, times in once]
 
 
-def laid_deeds(deeds):
-    """The laid script of what is known to be a script."""
+def made(deeds):
+    """How often what is known to be a script makes each move at each place: a dict from (name, x, y)."""
     found = {}
     for item in deeds:
         for name, x, y, times in deeds_of(item):
             found[name, x, y] = found.get((name, x, y), 0) + times
-    return tuple([(name, x, y, found[name, x, y])
-                  for name, x, y in sorted(found) if found[name, x, y] != 0])
+    return found
+
+
+def laid_deeds(deeds):
+    """The laid script of what is known to be a script."""
+    return tuple(sorted([(name, x, y, times) for (name, x, y), times in made(deeds).items() if times != 0]))
 
 
 def laid(book, deeds):
@@ -77,13 +81,14 @@ def laid(book, deeds):
 
 def change(book, deeds):
     """The stand that a script adds to any stand."""
+    check_script(book, deeds)
     moves = {name: entries for name, entries in book.moves}
     numbers = {}
-    for name, x, y, times in laid(book, deeds):
+    for (name, x, y), times in made(deeds).items():
         for right, up, kind, number in moves[name]:
             at = (x + right, y + up, kind)
             numbers[at] = numbers.get(at, 0) + times * number
-    return Stand(book.kinds, entries_from(numbers))
+    return known_stand(book.kinds, numbers)
 
 
 def undone_item(item):
